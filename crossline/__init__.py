@@ -1,0 +1,1 @@
+"""Points of a line with the far one, its changes, and the number that four points keep."""
